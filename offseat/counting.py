@@ -1,0 +1,54 @@
+"""How many seatings there are, by how many guests sit on the seat that they shun."""
+
+from offseat.checking import refuse_bad_shuns
+
+
+def counts(shuns):
+    refuse_bad_shuns(shuns)
+    told = exact_counts(chosen_counts(shuns))
+    # No more guests sit where they shun than there are shunned seats.
+    return told + [0] * (len(shuns) + 1 - len(told))
+
+
+def shunner_tallies(shuns):
+    tallies = {}
+    for seat in shuns:
+        if seat != -1:
+            tallies[seat] = tallies.get(seat, 0) + 1
+    return list(tallies.values())
+
+
+def ways_to_choose(tallies):
+    # At k: the ways to choose k guests who each shun another seat, and so can all sit where they shun.
+    ways = [1]
+    for tally in tallies:
+        ways.append(0)
+        for k in range(len(ways) - 1, 0, -1):
+            ways[k] += ways[k - 1] * tally
+    return ways
+
+
+def factorials(top):
+    products = [1]
+    for factor in range(1, top + 1):
+        products.append(products[-1] * factor)
+    return products
+
+
+def chosen_counts(shuns):
+    # At k: the seatings with k chosen guests on the seats that they shun, the rest seated anyhow.
+    ways = ways_to_choose(shunner_tallies(shuns))
+    rest = factorials(len(shuns))
+    return [way * rest[len(shuns) - k] for k, way in enumerate(ways)]
+
+
+def exact_counts(chosen):
+    # A seating with j guests on shunned seats is chosen once for each k of those j, so the
+    # chosen counts are the coefficients of the exact ones' polynomial at x + 1. Dividing by
+    # x + 1 over and over leaves the exact ones as the remainders.
+    exact = list(chosen)
+    last = len(exact) - 1
+    for done in range(last):
+        for k in range(last - 1, done - 1, -1):
+            exact[k] -= exact[k + 1]
+    return exact
