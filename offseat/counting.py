@@ -12,20 +12,38 @@ def counts(shuns):
 
 def shunner_tallies(shuns):
     tallies = {}
+    for seat in range(len(shuns)):
+        tallies[seat] = 0
     for seat in shuns:
         if seat != -1:
-            tallies[seat] = tallies.get(seat, 0) + 1
-    return list(tallies.values())
+            tallies[seat] += 1
+    return tallies
 
 
 def ways_to_choose(tallies):
     # At k: the ways to choose k guests who each shun another seat, and so can all sit where they shun.
     ways = [1]
     for tally in tallies:
-        ways.append(0)
-        for k in range(len(ways) - 1, 0, -1):
-            ways[k] += ways[k - 1] * tally
+        ways = ways_with_seat(ways, tally)
     return ways
+
+
+def ways_with_seat(ways, tally):
+    # Either nobody is chosen for the seat, or one of those who shun it.
+    more = ways + [0]
+    for k, way in enumerate(ways):
+        more[k + 1] += way * tally
+    return more
+
+
+def ways_without_seat(ways, tally):
+    # Undoes ways_with_seat: whatever order the seats came in, any of them can be taken back.
+    fewer = []
+    way_before = 0
+    for way in ways[:-1]:
+        way_before = way - way_before * tally
+        fewer.append(way_before)
+    return fewer
 
 
 def factorials(top):
@@ -37,7 +55,7 @@ def factorials(top):
 
 def chosen_counts(shuns):
     # At k: the seatings with k chosen guests on the seats that they shun, the rest seated anyhow.
-    ways = ways_to_choose(shunner_tallies(shuns))
+    ways = ways_to_choose([tally for tally in shunner_tallies(shuns).values() if tally > 0])
     rest = factorials(len(shuns))
     return [way * rest[len(shuns) - k] for k, way in enumerate(ways)]
 
@@ -52,3 +70,15 @@ def exact_counts(chosen):
         for k in range(last - 1, done - 1, -1):
             exact[k] -= exact[k + 1]
     return exact
+
+
+def count_off(ways):
+    # The first of the exact counts alone: the chosen counts, by turns added and taken away.
+    # The factorials come about on the way, as each step multiplies all that came before it.
+    guests = len(ways) - 1
+    total = 0
+    sign = 1
+    for k, way in enumerate(ways):
+        total = total * (guests + 1 - k) + sign * way
+        sign = -sign
+    return total

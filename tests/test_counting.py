@@ -2,11 +2,8 @@ import itertools
 import math
 import unittest
 
+from cases import LONG, all_shuns
 from offseat.counting import counts
-
-
-def all_shuns(guests):
-    return (list(shuns) for shuns in itertools.product(range(-1, guests), repeat=guests))
 
 
 def counted_by_trying(shuns, seatings):
@@ -21,21 +18,6 @@ def derangements(guests):
     for k in range(1, guests + 1):
         before, now = now, k * (now + before)
     return before
-
-
-LONG = [
-    list(range(60)),
-    list(reversed(range(61))),
-    [7] * 60,
-    [-1] * 62,
-    [-1] * 59 + [59],
-    [0] + [-1] * 59,
-    [k % 3 for k in range(60)],
-    [k % 7 - 1 for k in range(63)],
-    [(k * k) % 60 for k in range(60)],
-    [59] * 20 + [0] * 20 + [-1] * 10 + list(range(10, 20)),
-    [max(-1, k - 30) for k in range(60)],
-]
 
 
 class Counts(unittest.TestCase):

@@ -36,6 +36,17 @@ WORDS = re.compile(
     r"|dataclass|overload|contextmanager"
 )
 
+NAMES_NOT_USED = set(
+    "register mro elements open input version_info with_traceback add_note attrgetter breakpoint"
+    " builtins compile copyright credits delattr dir eval exec exit gc getattr globals hasattr help"
+    " id importlib license locals methodcaller os quit setattr super type vars sys chr print"
+    " format format_map".split()
+)
+VALUES_LIKE_PYTHONS = set("count index title find get join lower upper split strip copy add".split())
+METHODS_LIKE_PYTHONS = METHODS | {"add", "discard"}
+WALKED_AT_ONCE = {"zip", "enumerate", "reversed", "range", "items", "keys", "values"}
+WALKERS = {"list", "tuple", "dict", "sorted", "sum", "any", "all", "enumerate", "zip", "min", "max", "join"}
+
 
 def files():
     return sorted(path for path in PACKAGE.rglob("*") if path.is_file() and "__pycache__" not in path.parts)
@@ -61,6 +72,36 @@ def own_methods():
     return {
         part.name for path, node in nodes(ast.ClassDef) for part in node.body if isinstance(part, ast.FunctionDef)
     }
+
+
+def own_values():
+    return {node.attr for path, node in nodes(ast.Attribute) if isinstance(node.ctx, ast.Store)}
+
+
+def names_of_pythons_values():
+    return {name for kind in (str, int, list, dict, set, bytes, tuple) for name in dir(kind)}
+
+
+def called_name(call):
+    return call.func.attr if isinstance(call.func, ast.Attribute) else getattr(call.func, "id", None)
+
+
+def is_walked(tree, call):
+    for node in ast.walk(tree):
+        if isinstance(node, (ast.For, ast.comprehension)) and node.iter is call:
+            return True
+        if isinstance(node, ast.Call) and called_name(node) in WALKERS and call in node.args:
+            return True
+    return False
+
+
+def imported(tree):
+    return {name.name for node in tree.body if isinstance(node, ast.ImportFrom) for name in node.names}
+
+
+def drawn_from(stem):
+    tree = ast.parse((PACKAGE / (stem + ".py")).read_text("utf-8"))
+    return [node.module[8:] for node in tree.body if isinstance(node, ast.ImportFrom)]
 
 
 class Language(unittest.TestCase):
@@ -160,6 +201,52 @@ class Language(unittest.TestCase):
                 if isinstance(op, (ast.Is, ast.IsNot)):
                     self.assertIsInstance(right, ast.Constant, where(path, node))
                     self.assertIn(right.value, (None, True, False), where(path, node))
+
+    def test_no_two_files_draw_from_one_another(self):
+        for path in files():
+            reached = drawn_from(path.stem)
+            for stem in reached:
+                reached.extend(other for other in drawn_from(stem) if other not in reached)
+            self.assertNotIn(path.stem, reached)
+
+    def test_names_that_are_not_used(self):
+        for path, node in nodes((ast.Name, ast.Attribute)):
+            self.assertNotIn(node.id if isinstance(node, ast.Name) else node.attr, NAMES_NOT_USED, where(path, node))
+
+    def test_each_name_once(self):
+        for path, tree in trees():
+            tops = [part.name for part in tree.body if isinstance(part, (ast.FunctionDef, ast.ClassDef))]
+            bound = tops + sorted(imported(tree))
+            self.assertEqual(len(bound), len(set(bound)), path.name)
+            for node in ast.walk(tree):
+                if isinstance(node, ast.Name) and isinstance(node.ctx, ast.Store):
+                    self.assertNotIn(node.id, bound, where(path, node))
+                if isinstance(node, ast.arg):
+                    self.assertNotIn(node.arg, bound, where(path, node))
+
+    def test_own_methods_and_values(self):
+        methods = own_methods() - DUNDER_METHODS
+        self.assertEqual(methods & own_values(), set())
+        self.assertEqual((methods & names_of_pythons_values()) - METHODS_LIKE_PYTHONS, set())
+        self.assertEqual((own_values() & names_of_pythons_values()) - VALUES_LIKE_PYTHONS, set())
+
+    def test_no_annotations_keywords_or_taken_errors(self):
+        for path, node in nodes((ast.FunctionDef, ast.arg)):
+            self.assertIsNone(getattr(node, "returns", None) or getattr(node, "annotation", None), where(path, node))
+        for path, node in nodes(ast.Call):
+            self.assertEqual(node.keywords, [], where(path, node))
+        self.assertEqual(nodes(ast.Try), [])
+
+    def test_walked_at_once(self):
+        for path, tree in trees():
+            for node in ast.walk(tree):
+                if isinstance(node, ast.Call) and called_name(node) in WALKED_AT_ONCE:
+                    self.assertTrue(is_walked(tree, node), where(path, node))
+
+    def test_no_sets_and_no_powers(self):
+        self.assertEqual(nodes((ast.Set, ast.Pow)), [])
+        for path, node in nodes(ast.Name):
+            self.assertNotIn(node.id, ("set", "frozenset"), where(path, node))
 
 
 if __name__ == "__main__":
